@@ -1,0 +1,48 @@
+"""The examples of the document, just as they stand there."""
+
+import pathlib
+import unittest
+
+HERE = pathlib.Path(__file__).parent
+
+
+def told(error):
+    worths = ", ".join(f"{name}={worth!r}" for name, worth in vars(error).items())
+    return f"raises {type(error).__name__}({worths})"
+
+
+def outcome(code, names):
+    """What a row of an example shows: nothing, a result, or an error."""
+    try:
+        compiled = compile(code, "example", "eval")
+    except SyntaxError:
+        exec(code, names)
+        return ""
+    try:
+        return repr(eval(compiled, names))
+    except Exception as error:
+        return told(error)
+
+
+class Examples(unittest.TestCase):
+    def run_file(self, name):
+        names = {}
+        count = 0
+        lines = (HERE / name).read_text().splitlines()
+        for k, line in enumerate(lines):
+            if line.startswith(">>> "):
+                shown = lines[k + 1] if k + 1 < len(lines) else ""
+                wanted = "" if shown.startswith(">>> ") else shown
+                self.assertEqual(outcome(line[4:], names), wanted, line)
+                count += wanted != ""
+        return count
+
+    def test_part_1(self):
+        self.assertEqual(self.run_file("examples_part1.txt"), 3)
+
+    def test_part_2(self):
+        self.assertEqual(self.run_file("examples_part2.txt"), 2)
+
+
+if __name__ == "__main__":
+    unittest.main()

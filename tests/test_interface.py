@@ -1,0 +1,90 @@
+"""The interface: names, files, parameters, and the kinds of results."""
+
+import importlib
+import inspect
+import unittest
+
+from allshelves.protocols import known
+from allshelves.standings import first_standing
+from helpers import Checks, values_of_any_kind
+
+FUNCTIONS = {
+    "protocols": {
+        "is_protocol": ["thing"], "protocol_text": ["protocol"], "read_protocol": ["text"], "known": ["word"],
+        "marks_of": ["role"], "forced_places": ["protocol"], "lazier": ["protocol", "places"],
+    },
+    "standings": {
+        "first_standing": ["protocol", "n"], "is_standing": ["protocol", "n", "thing"],
+        "steps_from": ["protocol", "n", "standing"], "behind": ["protocol", "n", "standing", "step"],
+        "is_row": ["protocol", "n", "thing"], "standing_behind": ["protocol", "n", "steps"],
+    },
+}
+TWO = known("tworounds")
+VALUES = {
+    "protocol": TWO, "n": 2, "thing": (), "text": "\n".join(["leader", "state", "up 0", "member", "state", "up 0"]),
+    "word": "lazy", "role": TWO[0], "places": ((0, 0, 1),), "standing": first_standing(TWO, 2),
+    "step": ("rule", 0, 0), "steps": (("rule", 0, 0),),
+}
+
+
+def is_plain(thing):
+    """Whether a result consists of integers, strings, bools, None and tuples."""
+    if isinstance(thing, tuple):
+        return all(is_plain(item) for item in thing)
+    return thing is None or type(thing) in (int, str, bool)
+
+
+class Interface(Checks):
+    def all_functions(self):
+        for file, functions in FUNCTIONS.items():
+            module = importlib.import_module(f"allshelves.{file}")
+            for name, parameters in functions.items():
+                yield getattr(module, name), parameters, module
+
+    def test_defined_where_listed(self):
+        for function, _, module in self.all_functions():
+            self.assertTrue(inspect.isfunction(function))
+            self.assertEqual(function.__module__, module.__name__)
+
+    def test_parameters(self):
+        for function, parameters, _ in self.all_functions():
+            self.assertEqual(list(inspect.signature(function).parameters), parameters)
+
+    def test_by_position_and_by_name(self):
+        for function, parameters, _ in self.all_functions():
+            by_position = function(*[VALUES[name] for name in parameters])
+            self.same(function(**{name: VALUES[name] for name in reversed(parameters)}), by_position)
+            first, rest = parameters[:1], parameters[1:]
+            mixed = function(*[VALUES[name] for name in first], **{name: VALUES[name] for name in rest})
+            self.same(mixed, by_position)
+
+    def test_results_are_plain_and_the_same_again(self):
+        for function, parameters, _ in self.all_functions():
+            values = [VALUES[name] for name in parameters]
+            before = repr(values)
+            result = function(*values)
+            self.assertTrue(is_plain(result), function.__name__)
+            self.same(function(*values), result)
+            self.assertEqual(repr(values), before)
+
+    def test_any_value_is_answered(self):
+        for function, parameters, _ in self.all_functions():
+            if parameters[-1] == "thing":
+                for thing in values_of_any_kind():
+                    wanted = function.__name__ == "is_row" and thing == ()
+                    values = [VALUES[name] for name in parameters[:-1]]
+                    self.assertIs(function(*values, thing), wanted, thing)
+
+    def test_arguments_stay_as_they_are(self):
+        for function, parameters, _ in self.all_functions():
+            for thing in ([], [["rule", 0, 0]], {"a": [1]}, [VALUES["standing"]]):
+                before = repr(thing)
+                try:
+                    function(*[VALUES[name] for name in parameters[:-1]], thing)
+                except Exception:
+                    pass
+                self.assertEqual(repr(thing), before)
+
+
+if __name__ == "__main__":
+    unittest.main()
