@@ -28,6 +28,9 @@ def values_of_any_kind():
     ]
 
 
+# Values that are no number of houses.
+NO_NUMBERS = (0, 5, -1, 10 ** 39, True, False, None, "2", (2,), [2], {})
+
 JUNK = (None, True, False, -1, 0, 1, 13, 10 ** 39, "", "a", "Ab", "kept", (), ("a",), [], {}, Down())
 
 

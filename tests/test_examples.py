@@ -43,6 +43,18 @@ class Examples(unittest.TestCase):
     def test_part_2(self):
         self.assertEqual(self.run_file("examples_part2.txt"), 2)
 
+    def test_part_3(self):
+        self.assertEqual(self.run_file("examples_part3.txt"), 2)
+
+    def test_part_4(self):
+        self.assertEqual(self.run_file("examples_part4.txt"), 1)
+
+    def test_part_5(self):
+        self.assertEqual(self.run_file("examples_part5.txt"), 1)
+
+    def test_part_6(self):
+        self.assertEqual(self.run_file("examples_part6.txt"), 3)
+
 
 if __name__ == "__main__":
     unittest.main()

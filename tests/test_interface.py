@@ -18,13 +18,42 @@ FUNCTIONS = {
         "steps_from": ["protocol", "n", "standing"], "behind": ["protocol", "n", "standing", "step"],
         "is_row": ["protocol", "n", "thing"], "standing_behind": ["protocol", "n", "steps"],
     },
+    "judge": {
+        "judge_alike": ["protocol", "n"], "judge_willing": ["protocol", "n"], "alike_holds": ["protocol", "n", "thing"],
+        "willing_holds": ["protocol", "n", "thing"], "is_taken": ["protocol", "n"], "many_reached": ["protocol", "n"],
+    },
+    "live": {
+        "judge_live": ["protocol", "n"], "judge_free": ["protocol", "n"], "live_holds": ["protocol", "n", "thing"],
+        "free_holds": ["protocol", "n", "thing"], "lazy_lots": ["protocol", "n"], "costs": ["protocol", "n"],
+    },
+    "changes": {
+        "called": ["protocol", "names"], "reordered": ["protocol", "orders"], "states_met": ["protocol", "n"],
+        "cut_down": ["protocol", "n"],
+    },
+    "disks": {
+        "is_log_row": ["thing"], "row_text": ["row"], "sectors_of": ["row"], "read_row": ["text"], "is_device": ["thing"],
+        "log_of": ["device"], "length_of": ["device"], "written": ["device", "row"], "forced": ["device"], "mended": ["device"],
+        "cut": ["device", "lost"],
+    },
 }
 TWO = known("tworounds")
 VALUES = {
     "protocol": TWO, "n": 2, "thing": (), "text": "\n".join(["leader", "state", "up 0", "member", "state", "up 0"]),
     "word": "lazy", "role": TWO[0], "places": ((0, 0, 1),), "standing": first_standing(TWO, 2),
     "step": ("rule", 0, 0), "steps": (("rule", 0, 0),),
+    "names": (
+        tuple((kind, kind + "s") for kind in ("ask", "drop", "keep", "no", "what", "yes")),
+        (("dropped", "d"), ("kept", "k"), ("yes", "able")),
+    ),
+    "orders": ((0, 3, 1, 2), (0, 4, 2, 1, 3)), "row": ("write", 3, "apple", None, 5), "device": ((".end 3 kept ",), 0), "lost": (0,),
 }
+# Where the same parameter asks for another kind of value, or would take long.
+OTHER_VALUES = {"read_row": {"text": "mark 3 able"}, "lazy_lots": {"n": 1}}
+
+
+def values_for(function, parameters):
+    values = {**VALUES, **OTHER_VALUES.get(function.__name__, {})}
+    return {name: values[name] for name in parameters}
 
 
 def is_plain(thing):
@@ -52,15 +81,16 @@ class Interface(Checks):
 
     def test_by_position_and_by_name(self):
         for function, parameters, _ in self.all_functions():
-            by_position = function(*[VALUES[name] for name in parameters])
-            self.same(function(**{name: VALUES[name] for name in reversed(parameters)}), by_position)
+            values = values_for(function, parameters)
+            by_position = function(*values.values())
+            self.same(function(**{name: values[name] for name in reversed(parameters)}), by_position)
             first, rest = parameters[:1], parameters[1:]
-            mixed = function(*[VALUES[name] for name in first], **{name: VALUES[name] for name in rest})
+            mixed = function(*[values[name] for name in first], **{name: values[name] for name in rest})
             self.same(mixed, by_position)
 
     def test_results_are_plain_and_the_same_again(self):
         for function, parameters, _ in self.all_functions():
-            values = [VALUES[name] for name in parameters]
+            values = list(values_for(function, parameters).values())
             before = repr(values)
             result = function(*values)
             self.assertTrue(is_plain(result), function.__name__)

@@ -5,11 +5,10 @@ import unittest
 from allshelves.errors import BadNumber, BadProtocol, BadStanding
 from allshelves.protocols import known, read_protocol
 from allshelves.standings import behind, first_standing, is_row, is_standing, standing_behind, steps_from
-from helpers import Checks, reached, replaced, spoiled, values_of_any_kind
+from helpers import NO_NUMBERS, Checks, reached, replaced, spoiled, values_of_any_kind
 
 TWO = known("tworounds")
 ONE = known("oneround")
-NO_NUMBERS = (0, 5, -1, 10 ** 39, True, False, None, "2", (2,), [2], {})
 
 # The kind "c" stands only in a cause, "a" only in a letter, "b" in both.
 SMALL = read_protocol("""leader
