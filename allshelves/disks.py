@@ -53,22 +53,28 @@ def need_device(device):
 
 
 def need_clean(device):
-    if not is_device(device) or log_on(device[0])[1] < len(device[0]):
+    if not is_device(device) or length_with(log_on(device[0])) < len(device[0]):
         raise BadDevice(device)
 
 
 def log_on(sectors):
-    """The pair (rows, length) of the log on some sectors."""
-    rows, length = [], 0
+    """The log on some sectors: the pair of its rows and, for each, the position where its sectors end."""
+    rows, ends, start = [], [], 0
     for at, sector in enumerate(sectors):
         # Only the last sector of a row begins with "."; row_on looks at those before it.
         if sector[:1] == ".":
-            row = row_on(sectors[length:at + 1])
+            row = row_on(sectors[start:at + 1])
             if row is None:
                 break
+            start = at + 1
             rows.append(row)
-            length = at + 1
-    return (tuple(rows), length)
+            ends.append(start)
+    return (tuple(rows), tuple(ends))
+
+
+def length_with(log):
+    """The number of the sectors of a log that was read."""
+    return log[1][-1] if len(log[1]) > 0 else 0
 
 
 def row_on(sectors):
@@ -88,7 +94,7 @@ def log_of(device):
 
 def length_of(device):
     need_device(device)
-    return log_on(device[0])[1]
+    return length_with(log_on(device[0]))
 
 
 def written(device, row):
@@ -110,11 +116,19 @@ def mended(device):
 
 def cut(device, lost):
     need_device(device)
-    sectors, safe = device
-    if not are_positions(lost, safe, len(sectors)):
+    if not can_lose(device, lost):
         raise BadLost(lost)
-    left = tuple(["" if at in lost else sector for at, sector in enumerate(sectors)])
-    return (left, log_on(left)[1])
+    sectors = without(device[0], lost)
+    return (sectors, length_with(log_on(sectors)))
+
+
+def can_lose(device, thing):
+    """Whether any value is a set of sectors that the device can lose."""
+    return are_positions(thing, device[1], len(device[0]))
+
+
+def without(sectors, lost):
+    return tuple(["" if at in lost else sector for at, sector in enumerate(sectors)])
 
 
 def are_positions(thing, low, many):

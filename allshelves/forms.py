@@ -13,6 +13,11 @@ def is_integer_in(thing, low, high):
     return is_integer(thing) and low <= thing <= high
 
 
+def is_count(thing):
+    """Whether any value is an integer of 0 or more."""
+    return is_integer(thing) and thing >= 0
+
+
 def is_word(thing):
     if not isinstance(thing, str) or not 1 <= len(thing) <= LONGEST_WORD:
         return False
@@ -22,6 +27,11 @@ def is_word(thing):
 def is_tuple_of(thing, many):
     """Whether any value is a tuple of so many items."""
     return isinstance(thing, tuple) and len(thing) == many
+
+
+def are_all(things, is_right):
+    """Whether any value is a tuple of things that are right."""
+    return isinstance(things, tuple) and all([is_right(thing) for thing in things])
 
 
 def are_ascending(items):
@@ -42,3 +52,15 @@ def is_flat(thing):
     if not isinstance(thing, tuple):
         return False
     return all([is_integer(item) or isinstance(item, str) for item in thing])
+
+
+def is_same(thing, wanted):
+    """Whether any value equals a wanted one and is of the same kinds throughout.
+
+    The wanted one consists of integers, strings, bools, None and tuples.
+    """
+    if isinstance(wanted, tuple):
+        return is_tuple_of(thing, len(wanted)) and all([is_same(a, b) for a, b in zip(thing, wanted)])
+    if isinstance(thing, bool) or isinstance(wanted, bool):
+        return isinstance(thing, bool) and isinstance(wanted, bool) and thing == wanted
+    return thing == wanted

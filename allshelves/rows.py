@@ -1,12 +1,14 @@
 """The rows of logs, their form and their texts ([6.1])."""
 
 from allshelves.errors import BadText
-from allshelves.forms import ALPHABET, LONGEST_WORD, is_integer, is_integer_in, is_tuple_of, is_word
+from allshelves.forms import ALPHABET, LONGEST_WORD
+from allshelves.forms import is_count, is_integer, is_integer_in, is_word
 
 ROLES = ("leader", "member")
 ROW_ENDS = ("kept", "dropped")
 HOUSES = "0123"
 FEWEST_HOUSES = 2
+MOST_HOUSES = 4
 DIGITS = "0123456789"
 
 # What follows the deal in a row with each word.
@@ -26,13 +28,9 @@ def has_row_form(thing):
     if not isinstance(thing[0], str) or thing[0] not in ROW_PARTS:
         return False
     parts = ROW_PARTS[thing[0]]
-    if len(thing) != 2 + len(parts) or not has_deal_form(thing[1]):
+    if len(thing) != 2 + len(parts) or not is_count(thing[1]):
         return False
     return all([has_part_form(part, item) for part, item in zip(parts, thing[2:])])
-
-
-def has_deal_form(thing):
-    return is_integer(thing) and thing >= 0
 
 
 def has_worth_form(thing):
@@ -51,9 +49,9 @@ def has_part_form(part, thing):
 
 
 def has_houses_form(thing):
-    if not isinstance(thing, tuple) or not FEWEST_HOUSES <= len(thing) <= len(HOUSES):
+    if not isinstance(thing, tuple) or not FEWEST_HOUSES <= len(thing) <= MOST_HOUSES:
         return False
-    if not all([is_integer_in(house, 0, len(HOUSES) - 1) for house in thing]):
+    if not all([is_integer_in(house, 0, MOST_HOUSES - 1) for house in thing]):
         return False
     return len(set(thing)) == len(thing)
 
@@ -73,14 +71,14 @@ def item_text(item):
 class RowReader:
     """The characters of a text, taken one after another."""
 
-    def __init__(self, text):
-        self.text = text
+    def __init__(self, source):
+        self.source = source
         self.at = 0
 
     def next_one(self):
         # After the last character comes a line feed, which is never right, so an
         # incomplete text is found wrong at its length.
-        return self.text[self.at] if self.at < len(self.text) else "\n"
+        return self.source[self.at] if self.at < len(self.source) else "\n"
 
     def take_one_of(self, characters):
         """Steps over the next character, which is wrong if it is none of these, and returns it."""
@@ -95,7 +93,7 @@ class RowReader:
         start = self.at
         while self.next_one() in characters and self.at - start < most:
             self.at += 1
-        return self.text[start:self.at]
+        return self.source[start:self.at]
 
     def choice(self, words):
         """One of some words, none of which begins another one."""
@@ -112,7 +110,7 @@ class RowReader:
     def number(self):
         first = self.take_one_of(DIGITS)
         # Python writes no further digit after a 0 at the beginning.
-        return number_with(first if first == "0" else first + self.take_all_of(DIGITS, len(self.text)))
+        return number_with(first if first == "0" else first + self.take_all_of(DIGITS, len(self.source)))
 
     def worth(self):
         if self.next_one() != "-":
@@ -122,7 +120,7 @@ class RowReader:
 
     def houses(self):
         houses = self.take_one_of(HOUSES)
-        while len(houses) < FEWEST_HOUSES or (self.next_one() == "," and len(houses) < len(HOUSES)):
+        while len(houses) < FEWEST_HOUSES or (self.next_one() == "," and len(houses) < MOST_HOUSES):
             self.take_one_of(",")
             houses += self.take_one_of([house for house in HOUSES if house not in houses])
         return tuple([HOUSES.index(house) for house in houses])
@@ -138,7 +136,7 @@ class RowReader:
 
     def finish(self):
         """Finds any further character wrong."""
-        if self.at < len(self.text):
+        if self.at < len(self.source):
             raise BadText(self.at)
 
 

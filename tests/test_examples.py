@@ -55,6 +55,18 @@ class Examples(unittest.TestCase):
     def test_part_6(self):
         self.assertEqual(self.run_file("examples_part6.txt"), 3)
 
+    def test_part_7(self):
+        self.assertEqual(self.run_file("examples_part7.txt"), 2)
+
+    def test_part_8(self):
+        self.assertEqual(self.run_file("examples_part8.txt"), 2)
+
+    def test_part_9(self):
+        self.assertEqual(self.run_file("examples_part9.txt"), 2)
+
+    def test_part_10(self):
+        self.assertEqual(self.run_file("examples_part10.txt"), 3)
+
 
 if __name__ == "__main__":
     unittest.main()

@@ -4,8 +4,10 @@ import importlib
 import inspect
 import unittest
 
+from allshelves.houses import begun, fallen, new_house
 from allshelves.protocols import known
 from allshelves.standings import first_standing
+from allshelves.stores import falls, fired, new_store, opened
 from helpers import Checks, values_of_any_kind
 
 FUNCTIONS = {
@@ -35,6 +37,27 @@ FUNCTIONS = {
         "log_of": ["device"], "length_of": ["device"], "written": ["device", "row"], "forced": ["device"], "mended": ["device"],
         "cut": ["device", "lost"],
     },
+    "tables": {
+        "are_pages": ["thing"], "empty_pages": ["many"], "page_of": ["key", "many"], "worth_of": ["pages", "key"], "worths_on": ["pages"],
+        "done": ["pages", "number", "row"], "all_done": ["pages", "rows"], "worths_by": ["rows"],
+    },
+    "locks": {
+        "are_locks": ["thing"], "asked": ["locks", "deal", "key", "kind"], "freed": ["locks", "deal"], "waits_for": ["locks"],
+        "judge_web": ["web"], "web_holds": ["web", "thing"], "victim": ["web"],
+    },
+    "houses": {
+        "new_house": ["many"], "is_house": ["thing"], "begun": ["house", "deal", "role", "houses"], "read_at": ["house", "deal", "key"],
+        "write_at": ["house", "deal", "key", "worth"], "marked": ["house", "deal", "mark", "is_forced"], "ended": ["house", "deal", "end"],
+        "ended_amid": ["house", "deal", "end", "k", "lost"], "flushed": ["house", "k"], "fallen": ["house", "lost"], "come_up": ["house"],
+        "open_deals": ["house"], "last_mark": ["house", "deal"],
+    },
+    "stores": {
+        "new_store": ["protocol", "n", "many"], "is_store": ["thing"], "opened": ["store", "houses"], "read": ["store", "deal", "house", "key"],
+        "write": ["store", "deal", "house", "key", "worth"], "fired": ["store", "deal", "house", "r"], "can_fire": ["store", "deal", "house"],
+        "hears": ["store", "deal", "house", "sender", "kind"], "falls": ["store", "house", "lost"], "amid": ["store", "thing", "k", "lost"],
+        "comes_up": ["store", "house"], "flush": ["store", "house", "k"], "force": ["store", "house"], "standing_of": ["store", "deal"],
+        "ends_of": ["store", "deal"], "worths_at": ["store", "house"],
+    },
 }
 TWO = known("tworounds")
 VALUES = {
@@ -47,12 +70,25 @@ VALUES = {
     ),
     "orders": ((0, 3, 1, 2), (0, 4, 2, 1, 3)), "row": ("write", 3, "apple", None, 5), "device": ((".end 3 kept ",), 0), "lost": (0,),
 }
+VALUES.update({
+    "many": 2, "key": "a", "number": 1, "pages": new_house(2)[1], "rows": (VALUES["row"],), "locks": ((("a", 1, "read"),), ()), "deal": 0,
+    "kind": "read", "web": ((1, 2),), "house": 0, "houses": (1, 0), "worth": None, "mark": "yes", "is_forced": True, "end": "kept", "k": 0, "r": 0,
+    "store": opened(new_store(TWO, 2, 1), (0, 1)),
+})
+HOUSE = begun(new_house(1), 0, "leader", (0, 1))
+DOWN = falls(VALUES["store"], 0, ())
+ASKED = fired(VALUES["store"], 0, 0, 0)
 # Where the same parameter asks for another kind of value, or would take long.
-OTHER_VALUES = {"read_row": {"text": "mark 3 able"}, "lazy_lots": {"n": 1}}
+OTHER_VALUES = {
+    "read_row": {"text": "mark 3 able"}, "lazy_lots": {"n": 1}, "begun": {"role": "leader", "deal": 1}, "come_up": {"house": fallen(HOUSE, ())},
+    "amid": {"thing": ("fire", 0, 0, 1), "lost": ()}, "comes_up": {"store": DOWN}, "hears": {"store": ASKED, "house": 1, "sender": 0, "kind": "ask"},
+}
 
 
 def values_for(function, parameters):
     values = {**VALUES, **OTHER_VALUES.get(function.__name__, {})}
+    if function.__module__ == "allshelves.houses" and isinstance(values["house"], int):
+        values["house"] = HOUSE
     return {name: values[name] for name in parameters}
 
 
@@ -101,8 +137,8 @@ class Interface(Checks):
         for function, parameters, _ in self.all_functions():
             if parameters[-1] == "thing":
                 for thing in values_of_any_kind():
-                    wanted = function.__name__ == "is_row" and thing == ()
-                    values = [VALUES[name] for name in parameters[:-1]]
+                    wanted = function.__name__ == "is_row" and thing == () or function.__name__ == "are_locks" and thing == ((), ())
+                    values = list(values_for(function, parameters[:-1]).values())
                     self.assertIs(function(*values, thing), wanted, thing)
 
     def test_arguments_stay_as_they_are(self):
@@ -110,7 +146,7 @@ class Interface(Checks):
             for thing in ([], [["rule", 0, 0]], {"a": [1]}, [VALUES["standing"]]):
                 before = repr(thing)
                 try:
-                    function(*[VALUES[name] for name in parameters[:-1]], thing)
+                    function(*values_for(function, parameters[:-1]).values(), thing)
                 except Exception:
                     pass
                 self.assertEqual(repr(thing), before)
