@@ -61,6 +61,8 @@ def is_same(thing, wanted):
     """
     if isinstance(wanted, tuple):
         return is_tuple_of(thing, len(wanted)) and all([is_same(a, b) for a, b in zip(thing, wanted)])
-    if isinstance(thing, bool) or isinstance(wanted, bool):
-        return isinstance(thing, bool) and isinstance(wanted, bool) and thing == wanted
+    if isinstance(wanted, bool):
+        return isinstance(thing, bool) and thing == wanted
+    if is_integer(wanted):
+        return is_integer(thing) and thing == wanted
     return thing == wanted

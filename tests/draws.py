@@ -53,11 +53,33 @@ state kept
 up 0
 up done 1""")
 
+# Marks are written and not forced; the leader comes to its end "kept" again and again.
+SLOW = read_protocol("""leader
+state
+on timer write m go 0
+on timer write n go 1
+on unable go 2
+state kept
+on timer go 0
+state dropped
+up 0
+up m 0
+up n 1
+member
+state
+on able write m send hi leader go 0
+on timer write n go 1
+state dropped
+up 0
+up m 0
+up n 1""")
+
 PROTOCOLS = {
     "tworounds": known("tworounds"), "oneround": known("oneround"), "lazy": known("lazy"), "loose": LOOSE, "hasty": HASTY,
+    "slow": SLOW,
 }
 KEYS = "abc"
-WEIGHTS = {"open": 3, "read": 2, "write": 3, "hear": 3, "fall": 0.5, "amid": 0.1, "up": 2, "flush": 0.2, "force": 0.2}
+WEIGHTS = {"open": 3, "read": 2, "write": 3, "hear": 3, "fall": 0.5, "up": 2, "flush": 0.2, "force": 0.2}
 # Rules that lead on are fired more often than those that give up.
 CAUSE_WEIGHTS = {"able": 2, "each": 6, "some": 3, "unable": 0.3, "timer": 0.3}
 # What hinders deals; how often it happens differs from run to run.
@@ -124,6 +146,8 @@ def candidates(source, store, most_deals):
 
 def weight(store, thing, wildness):
     word = thing[0]
+    if word == "amid":
+        return weight(store, thing[1], wildness) / 8
     if word == "fire":
         _, deal, house, r = thing
         places, seats = store[2][deal]
@@ -158,7 +182,7 @@ class Drawn:
 
 
 @functools.cache
-def drawn_runs(many=50, length=40):
+def drawn_runs(many=60, length=40):
     source = random.Random(3)
     found = []
     for k in range(many):

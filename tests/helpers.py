@@ -2,7 +2,9 @@
 
 import unittest
 
+from allshelves.benches import Bench
 from allshelves.errors import BadProtocol, BadText, BadWord, Down, ShelfError
+from allshelves.protocols import known
 from allshelves.texts import Reader
 
 
@@ -14,7 +16,8 @@ def nested(depth):
 
 
 def values_of_any_kind():
-    """Values that are no argument of any kind that parts 1 and 2 ask for."""
+    """Values that are almost no argument of any kind that is asked for."""
+    bench = Bench(known("oneround"), 2, 1)
     return [
         None, True, False, 0, 1, -1, 5, 10 ** 40 - 1, -(10 ** 40 - 1),
         "", "a", "kept", "able", "0", "x" * 1000, "~ {}\n\n", "\n",
@@ -24,14 +27,14 @@ def values_of_any_kind():
         ({}, {}), ([], []), ("", ""), (0, 0), (None, None), ({}, []), (((),), ((),)),
         nested(10), [nested(9)], tuple(range(1999)), ("a",) * 1999,
         ShelfError(), BadWord("a"), BadProtocol(()), BadText(3), Down(), Reader([]),
-        (BadWord("a"), BadWord("a")), ((Down(), Down()), [Reader([])]),
+        (BadWord("a"), BadWord("a")), ((Down(), Down()), [Reader([])]), bench, (bench, bench), [bench], ("up", bench), (bench,) * 5,
     ]
 
 
 # Values that are no number of houses.
 NO_NUMBERS = (0, 5, -1, 10 ** 39, True, False, None, "2", (2,), [2], {})
 
-JUNK = (None, True, False, -1, 0, 1, 13, 10 ** 39, "", "a", "Ab", "kept", (), ("a",), [], {}, Down())
+JUNK = (None, True, False, -1, 0, 1, 13, 10 ** 39, "", "a", "Ab", "kept", (), ("a",), [], {}, Down(), Bench(known("lazy"), 2, 1))
 
 
 def spoiled(thing):

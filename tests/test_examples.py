@@ -67,6 +67,18 @@ class Examples(unittest.TestCase):
     def test_part_10(self):
         self.assertEqual(self.run_file("examples_part10.txt"), 3)
 
+    def test_part_11(self):
+        self.assertEqual(self.run_file("examples_part11.txt"), 1)
+
+    def test_part_12(self):
+        self.assertEqual(self.run_file("examples_part12.txt"), 1)
+
+    def test_part_13(self):
+        self.assertEqual(self.run_file("examples_part13.txt"), 2)
+
+    def test_part_14(self):
+        self.assertEqual(self.run_file("examples_part14.txt"), 3)
+
 
 if __name__ == "__main__":
     unittest.main()

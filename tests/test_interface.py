@@ -4,6 +4,8 @@ import importlib
 import inspect
 import unittest
 
+from allshelves.benches import Bench
+from allshelves.errors import BadEvent
 from allshelves.houses import begun, fallen, new_house
 from allshelves.protocols import known
 from allshelves.standings import first_standing
@@ -58,6 +60,26 @@ FUNCTIONS = {
         "comes_up": ["store", "house"], "flush": ["store", "house", "k"], "force": ["store", "house"], "standing_of": ["store", "deal"],
         "ends_of": ["store", "deal"], "worths_at": ["store", "house"],
     },
+    "ways": {
+        "happened": ["store", "thing"], "is_run": ["store", "thing"], "behind_run": ["store", "run"], "what_can": ["store"],
+        "way_of": ["protocol", "n", "many", "run", "deal"],
+    },
+    "histories": {
+        "is_history": ["thing"], "is_right_in": ["history", "order"], "left_by": ["history"], "judge_serial": ["history"],
+        "serial_holds": ["history", "thing"], "kept_deals": ["store"], "history_of": ["store"],
+    },
+    "checks": {
+        "are_disks": ["thing"], "disks_of": ["store"], "judge_disks": ["protocol", "disks"], "disks_hold": ["protocol", "disks", "thing"],
+        "judge_finish": ["store"], "finish_holds": ["store", "thing"],
+    },
+    "benches": {
+        "read_bench": ["text"], "is_wish": ["thing"], "does_show": ["protocol", "n", "many", "run", "wish"],
+        "shortened": ["protocol", "n", "many", "run", "wish"], "is_tight": ["protocol", "n", "many", "run", "wish"],
+    },
+}
+BENCH = {
+    "__init__": ["self", "protocol", "n", "many"], "protocol": ["self"], "run": ["self"], "store": ["self"], "text": ["self"], "do": ["self", "thing"],
+    "undo": ["self"], "redo": ["self"], "copied": ["self"], "__eq__": ["self", "other"],
 }
 TWO = known("tworounds")
 VALUES = {
@@ -73,7 +95,8 @@ VALUES = {
 VALUES.update({
     "many": 2, "key": "a", "number": 1, "pages": new_house(2)[1], "rows": (VALUES["row"],), "locks": ((("a", 1, "read"),), ()), "deal": 0,
     "kind": "read", "web": ((1, 2),), "house": 0, "houses": (1, 0), "worth": None, "mark": "yes", "is_forced": True, "end": "kept", "k": 0, "r": 0,
-    "store": opened(new_store(TWO, 2, 1), (0, 1)),
+    "store": opened(new_store(TWO, 2, 1), (0, 1)), "run": (("open", (0, 1)), ("fire", 0, 0, 1)), "history": ((0, (("write", 0, "a", 1),)),), "order": (0,),
+    "disks": ((((), 0), ((0, ()),)),) * 2, "wish": ("told", 0, "dropped"),
 })
 HOUSE = begun(new_house(1), 0, "leader", (0, 1))
 DOWN = falls(VALUES["store"], 0, ())
@@ -82,7 +105,13 @@ ASKED = fired(VALUES["store"], 0, 0, 0)
 OTHER_VALUES = {
     "read_row": {"text": "mark 3 able"}, "lazy_lots": {"n": 1}, "begun": {"role": "leader", "deal": 1}, "come_up": {"house": fallen(HOUSE, ())},
     "amid": {"thing": ("fire", 0, 0, 1), "lost": ()}, "comes_up": {"store": DOWN}, "hears": {"store": ASKED, "house": 1, "sender": 0, "kind": "ask"},
+    "happened": {"thing": ("force", 0)}, "behind_run": {"run": (("force", 0),)},
+    "read_bench": {"text": VALUES["text"] + "\nhouses 2\npages 1\nopen 0,1"},
 }
+
+
+# Among the values of any kind there are some of the kinds that are asked for.
+RIGHT_BY_CHANCE = [("is_row", ()), ("is_run", ()), ("is_history", ()), ("are_locks", ((), ()))]
 
 
 def values_for(function, parameters):
@@ -93,10 +122,10 @@ def values_for(function, parameters):
 
 
 def is_plain(thing):
-    """Whether a result consists of integers, strings, bools, None and tuples."""
+    """Whether a result consists of integers, strings, bools, None and tuples, or is a bench."""
     if isinstance(thing, tuple):
         return all(is_plain(item) for item in thing)
-    return thing is None or type(thing) in (int, str, bool)
+    return thing is None or type(thing) in (int, str, bool, Bench)
 
 
 class Interface(Checks):
@@ -119,10 +148,21 @@ class Interface(Checks):
         for function, parameters, _ in self.all_functions():
             values = values_for(function, parameters)
             by_position = function(*values.values())
-            self.same(function(**{name: values[name] for name in reversed(parameters)}), by_position)
+            self.alike(function(**{name: values[name] for name in reversed(parameters)}), by_position)
             first, rest = parameters[:1], parameters[1:]
             mixed = function(*[values[name] for name in first], **{name: values[name] for name in rest})
-            self.same(mixed, by_position)
+            self.alike(mixed, by_position)
+
+    def alike(self, result, wanted):
+        if isinstance(wanted, Bench):
+            result, wanted = result.text(), wanted.text()
+        self.same(result, wanted)
+
+    def test_the_bench(self):
+        self.assertEqual(Bench.__module__, "allshelves.benches")
+        self.assertEqual(Bench.__bases__, (object,))
+        for name, parameters in BENCH.items():
+            self.assertEqual(list(inspect.signature(vars(Bench)[name]).parameters), parameters)
 
     def test_results_are_plain_and_the_same_again(self):
         for function, parameters, _ in self.all_functions():
@@ -130,16 +170,19 @@ class Interface(Checks):
             before = repr(values)
             result = function(*values)
             self.assertTrue(is_plain(result), function.__name__)
-            self.same(function(*values), result)
+            self.alike(function(*values), result)
             self.assertEqual(repr(values), before)
 
     def test_any_value_is_answered(self):
         for function, parameters, _ in self.all_functions():
             if parameters[-1] == "thing":
                 for thing in values_of_any_kind():
-                    wanted = function.__name__ == "is_row" and thing == () or function.__name__ == "are_locks" and thing == ((), ())
                     values = list(values_for(function, parameters[:-1]).values())
-                    self.assertIs(function(*values, thing), wanted, thing)
+                    if function.__name__ == "happened":
+                        self.refuses(BadEvent, thing, function, *values, thing)
+                    else:
+                        wanted = (function.__name__, thing) in RIGHT_BY_CHANCE
+                        self.assertIs(function(*values, thing), wanted, (function.__name__, thing))
 
     def test_arguments_stay_as_they_are(self):
         for function, parameters, _ in self.all_functions():

@@ -224,6 +224,22 @@ class Language(unittest.TestCase):
                 if isinstance(part, ast.FunctionDef) and part.name.startswith("__"):
                     self.assertIn(part.name, ALLOWED_DUNDERS, place)
 
+    def test_no_name_is_a_method_and_an_attribute(self):
+        methods, attributes = set(), set()
+        for _, node, _ in self.each(ast.ClassDef):
+            methods |= {part.name for part in node.body if isinstance(part, ast.FunctionDef)}
+        for _, node, _ in self.each(ast.Attribute):
+            attributes |= {node.attr} if isinstance(node.ctx, ast.Store) else set()
+        self.assertEqual(methods & attributes, set())
+        self.assertEqual((methods | attributes) & {"items", "keys", "values", "sort", "args", "format", "encode", "decode", "hex"}, set())
+
+    def test_one_class_compares_by_one_row(self):
+        for _, node, place in self.each(ast.FunctionDef):
+            if node.name == "__eq__":
+                self.assertEqual(ast.unparse(node.body[0]), "return isinstance(other, Bench) and self.text() == other.text()", place)
+        for _, node, place in self.each(ast.Call):
+            self.assertNotEqual(called(node), "sort", place)
+
     def test_iterated_at_once(self):
         for source, node, place in self.each(ast.Call):
             if called(node) in AT_ONCE:

@@ -125,7 +125,7 @@ class Guarantee(Checks):
         self.assertEqual([is_taken(PROTOCOLS[name], 2) for name in ("tworounds", "oneround", "lazy", "loose")], [True, False, False, False])
         source = random.Random(8)
         runs = [drawn for drawn in drawn_runs() if drawn.name == "tworounds"]
-        runs += [Drawn(source, "tworounds", 2, 1, 50, 2, wildness) for wildness in (0.02, 0.02, 0.02, 0.1, 0.1, 0.1, 0.3, 1)]
+        runs += [Drawn(source, "tworounds", 2, 1, 50, 2, wildness) for wildness in (0.02, 0.02, 0.05, 0.05, 0.1, 0.1, 0.3, 1)]
         kept = 0
         for drawn in runs:
             for store in drawn.stores:
