@@ -11,11 +11,9 @@ def has_locks_form(thing):
     held, waits = thing
     if not are_all(held, is_hold) or not are_all(waits, is_wait):
         return False
-    if not are_ascending(held) or len(set([(key, deal) for key, deal, _ in held])) < len(held):
+    if not are_ascending(held) or not are_in_keeping(held) or len(set([deal for deal, _, _ in waits])) < len(waits):
         return False
-    if len(set([deal for deal, _, _ in waits])) < len(waits):
-        return False
-    return are_in_keeping(held) and all([is_lacking(held, deal, key, kind) for deal, key, kind in waits])
+    return all([is_lacking(held, deal, key, kind) for deal, key, kind in waits])
 
 
 def is_hold(thing):
@@ -32,6 +30,7 @@ def are_compatible(kind, other):
 
 def are_in_keeping(held):
     """Whether all deals that hold the same key hold it in compatible kinds."""
+    # So no deal holds a key twice: in different kinds, one of them would be "write".
     keys = [key for key, _, _ in held]
     return all([kind == "read" or keys.count(key) == 1 for key, _, kind in held])
 
@@ -54,12 +53,12 @@ def does_wait(locks, deal):
 
 
 def in_the_way(held, waits, deal, key, kind):
-    """The ascending tuple of the other deals that hold the key, or wait for it, incompatibly."""
+    """The other deals that hold the key, or wait for it, in a kind that is not compatible."""
     users = [(other_key, other, other_kind) for other, other_key, other_kind in waits]
-    return ascending([
+    return [
         other for other_key, other, other_kind in list(held) + users
         if other_key == key and other != deal and not are_compatible(kind, other_kind)
-    ])
+    ]
 
 
 def lock_asked(locks, deal, key, kind):
@@ -67,7 +66,7 @@ def lock_asked(locks, deal, key, kind):
     held, waits = locks
     if not is_lacking(held, deal, key, kind):
         return (True, locks)
-    if in_the_way(held, waits, deal, key, kind) != ():
+    if len(in_the_way(held, waits, deal, key, kind)) > 0:
         return (False, (held, waits + ((deal, key, kind),)))
     return (True, (held_also(held, deal, key, kind), waits))
 
@@ -96,7 +95,7 @@ def lock_freed(locks, deal):
 def first_granted(held, waits):
     """The position of the first wait that can be granted; None if there is none."""
     for at, (deal, key, kind) in enumerate(waits):
-        if in_the_way(held, waits[:at], deal, key, kind) == ():
+        if len(in_the_way(held, waits[:at], deal, key, kind)) == 0:
             return at
     return None
 

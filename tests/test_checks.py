@@ -288,6 +288,10 @@ class Finishes(Checks):
         store = fired(fired(opened(new_store(TWO, 2, 1), (0, 1)), 0, 0, 1), 0, 1, 1)
         self.same(self.check(store), ("ended", ((0, ()),)))
         self.assertIs(finish_holds(store, ("ended", ((0, (("hear", 0, 1, 0, "drop"),)),))), True)
+        # No deal twice, though nothing is left to be done for it.
+        self.assertIs(finish_holds(store, ("ended", ((0, ()), (0, ())))), False)
+        for thing in spoiled(("ended", ((0, ()),))):
+            self.assertIs(finish_holds(store, thing), self.plain_holds(store, thing), thing)
         # Its end is told, but a house is down, or the deal is open there.
         down = falls(store, 0, ())
         self.same(self.check(down), ("ended", ((0, (("up", 0),)),)))

@@ -209,6 +209,13 @@ class Stores(Checks):
         store = write(store, 0, 1, "e", 9)[0]
         self.same(history_of(store), history)
 
+    def test_keys_called_as_ends(self):
+        store = opened(opened(new_store(TWO, 2, 1), (0, 1)), (0, 1))
+        store = read(write(store, 0, 0, "kept", 1)[0], 1, 1, "kept")[0]
+        self.same([kept_deals(store), history_of(store)], [(), ()])
+        store = kept_along(store, 1, 0, 1)
+        self.same([kept_deals(store), history_of(store)], [(1,), ((1, (("read", 1, "kept", None),)),)])
+
     def test_kept_at_one_house(self):
         one = known("oneround")
         store = opened(opened(new_store(one, 2, 1), (0, 1)), (1, 0))

@@ -83,6 +83,11 @@ class Houses(Checks):
             ):
                 self.no((house[0], (page, AGES[0][1]), house[2]))
 
+    def test_keys_that_come_to_a_page_in_any_order(self):
+        rows = (B1, ("write", 1, "c", None, 1), W1B, W1A, ("write", 1, "bb", None, 2))
+        for house in (house_up(rows, 1), house_down(rows, 1)):
+            self.yes((house[0], ((5, (("a", 5), ("b", 6), ("bb", 2), ("c", 1))),), house[2]), (house[0], ((3, (("b", 6), ("c", 1))),), house[2]))
+
     def test_undo_rows_on_pages(self):
         rows = (B1, W1A, W1B, U1B, U1A)
         for house in (house_up(rows, 1), house_down(rows, 1)):

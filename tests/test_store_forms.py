@@ -6,7 +6,7 @@ import unittest
 from allshelves.disks import written
 from allshelves.errors import BadStore, TooLate
 from allshelves.protocols import known
-from allshelves.stores import can_fire, comes_up, ends_of, falls, fired, force, hears, is_store, new_store, opened, read, standing_of, worths_at, write
+from allshelves.stores import amid, can_fire, comes_up, ends_of, falls, fired, force, hears, is_store, new_store, opened, read, standing_of, worths_at, write
 from draws import LOOSE, drawn_runs
 from helpers import Checks, replaced, spoiled, values_of_any_kind
 from oracle import store_valid
@@ -139,6 +139,7 @@ class Stores(Checks):
             past[:3], past + past[3:], past + (("told", 0, 0, "kept"),), past + (("told", 0, 2, "dropped"),), past[:3] + (("told", 0, 2, "dropped"),),
             past[:3] + (("told", 1, 2, "kept"),), past[:3] + (("told", 0, 0, "kept"),), past[:3] + (("told", 0, 2),), past[:3] + (["told", 0, 2, "kept"],),
             past[:3] + (("told", 0, 2, "kept", 1),), past[:3] + (("tell", 0, 2, "kept"),), past + (("told", 0, 2, ""),), list(past), past + (None,),
+            past + (("tell", 0, 2, "kept"),), past + (("read", 0, 2, "kept"),), past + (("told", 0, 2, None),), past + (("told", 0, 2, ["kept"]),),
         ):
             self.no(self.changed((4,), other))
         for event in (
@@ -208,6 +209,13 @@ class Strange(Checks):
         store = replaced(DOWN, (1, 0), ((sectors + ("", ".mark 1 kept"), safe), pages, None))
         self.same([is_store(store), worths_at(store, 0)], [True, worths_at(DOWN, 0)])
         self.same(comes_up(store, 0), comes_up(DOWN, 0))
+
+    def test_deals_that_do_not_come_up_do_not_fall(self):
+        # The deal 1 is whole though it fell before it said anything; only its own turn would change that.
+        store = falls(opened(opened(new_store(TWO, 2, 1), (0, 1)), (1, 0)), 0, ())
+        store = replaced(store, (2, 1, 1, 1, 4), True)
+        self.same([is_store(store), amid(store, ("up", 0), 0, ())[2][1]], [True, store[2][1]])
+        self.same(amid(store, ("up", 0), 0, ())[2][0][1][0], (-1, (), False, -1, False, ("dropped",)))
 
     def test_pages_of_other_numbers(self):
         store = replaced(KEPT, (1,), KEPT[1] + (new_store(TWO, 2, 8)[1][0],))

@@ -167,6 +167,8 @@ class ReadAndWrite(Checks):
         store = opened(new_store(marks, 2, 1), (0, 1))
         self.same(read(store, 0, 0, "a")[1], ("worth", None))
         self.assertEqual(self.refused(TooLate, read, fired(store, 0, 0, 0), 0, 0, "a").deal, 0)
+        # A house that is down has no state, and no end.
+        self.assertEqual(self.refused(TooLate, read, falls(store, 0, ()), 0, 0, "a").deal, 0)
 
     def test_errors(self):
         for deal in NO_DEALS:
