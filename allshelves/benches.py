@@ -78,8 +78,8 @@ def read_bench(text):
         raise BadText(0)
     reader = Reader(text.split("\n"))
     protocol = protocol_read(reader)
-    n = number_read(reader, [(houses_line(n), n) for n in range(FEWEST_HOUSES, MOST_HOUSES + 1)])
-    many = number_read(reader, [(pages_line(many), many) for many in range(1, MOST_PAGES + 1)])
+    n = number_read(reader, [(houses_line(k), k) for k in range(FEWEST_HOUSES, MOST_HOUSES + 1)])
+    many = number_read(reader, [(pages_line(k), k) for k in range(1, MOST_PAGES + 1)])
     bench = Bench(protocol, n, many)
     while reader.at < len(reader.lines):
         thing = thing_guessed(reader.line())

@@ -57,12 +57,10 @@ def is_flat(thing):
 def is_same(thing, wanted):
     """Whether any value equals a wanted one and is of the same kinds throughout.
 
-    The wanted one consists of integers, strings, bools, None and tuples.
+    The wanted one consists of integers, strings and tuples.
     """
     if isinstance(wanted, tuple):
         return is_tuple_of(thing, len(wanted)) and all([is_same(a, b) for a, b in zip(thing, wanted)])
-    if isinstance(wanted, bool):
-        return isinstance(thing, bool) and thing == wanted
-    if is_integer(wanted):
-        return is_integer(thing) and thing == wanted
+    if is_integer(wanted) and not is_integer(thing):
+        return False
     return thing == wanted
